@@ -1,0 +1,1 @@
+"""Bakeahead: on which days to light the oven."""

@@ -1,0 +1,131 @@
+"""What several tests use: bakeries, odd things, and questions that are asked with a close look."""
+
+import copy
+
+from bakeahead.errors import NoBakery
+
+TOP = 10 ** 9
+SIXTY_FIGURES = 10 ** 60 - 1
+
+
+class Thing:
+    """An object of a class that the program doesn't know."""
+
+
+def some_function():
+    return 0
+
+
+NO_WHOLE = [
+    True, False, None, "", "0", "1", "one", b"", b"1", [], [0], [1], (), (0,), (1,), {}, {0: 1}, set(), {1},
+    object(), Thing(), Thing, int, len, some_function, lambda: 1, ValueError("1"), range(1), NotImplemented, ...,
+]
+NO_NUMBER = NO_WHOLE + [-1, -2, -TOP, TOP + 1, TOP + 2, 10 ** 18, SIXTY_FIGURES, -SIXTY_FIGURES]
+
+
+def replaced(thing, path, new):
+    """A copy of nested lists and tuples, with another thing at the place to which the path leads."""
+    if not path:
+        return new
+    parts = [copy.deepcopy(part) if at != path[0] else part for at, part in enumerate(thing)]
+    parts[path[0]] = replaced(parts[path[0]], path[1:], new)
+    return tuple(parts) if isinstance(thing, tuple) else parts
+
+
+def at_path(thing, path):
+    for step in path:
+        thing = thing[step]
+    return thing
+
+
+def one_good(lights, days, life=None, bound=None):
+    return (lights, bound, [(days, life)])
+
+
+def even_bakery(many, day, light=1, life=None, bound=None, goods=1):
+    """A bakery whose days, of all goods, are alike."""
+    return ([light] * many, bound, [([day] * many, life) for _ in range(goods)])
+
+
+def three_days():
+    """A bakery of one good: loaves keep one night; wants of day 0 may wait for day 1."""
+    return ([10, 20, 30], None, [([(2, 5, 1, 3), (4, 6, 2, None), (0, 7, 4, 9)], 1)])
+
+
+def two_goods():
+    """A bakery of two goods and four days, at most nine loaves a day."""
+    return (
+        [10, 20, 30, 40],
+        9,
+        [
+            ([(2, 5, 1, 3), (4, 6, 2, 8), (0, 7, 4, None), (3, 2, 6, 1)], 2),
+            ([(1, 1, 2, None), (0, 2, 3, 5), (5, 3, 4, 7), (2, 9, 1, 2)], None),
+        ],
+    )
+
+
+# No bakery, and the good and the day by which each is refused.
+NO_BAKERIES = [
+    (None, None, None),
+    (7, None, None),
+    ("bakery", None, None),
+    ([], None, None),
+    ({}, None, None),
+    (object(), None, None),
+    (list(three_days()), None, None),
+    (replaced(three_days(), [0, 1], True), None, None),
+    (replaced(three_days(), [1], 0), None, None),
+    (replaced(three_days(), [2], []), None, None),
+    (replaced(two_goods(), [2, 1], None), 1, None),
+    (replaced(three_days(), [2, 0, 1], 41), 0, None),
+    (replaced(three_days(), [2, 0, 0, 2], (1, 2, 3)), 0, 2),
+    (replaced(two_goods(), [2, 1, 0, 1, 0], -1), 1, 1),
+]
+
+
+def check_refused(test, good, day, ask, *handed):
+    """The asking is refused with NoBakery, of just this good and day."""
+    with test.assertRaises(NoBakery) as caught:
+        ask(*handed)
+    told = (caught.exception.good, caught.exception.day)
+    # The very kinds count as well: True is not to stand for 1.
+    test.assertEqual(repr(told), repr((good, day)))
+
+
+def check_refuses_no_bakeries(test, ask, *others):
+    """What is no bakery is refused ahead of all else, and a refusal leaves nothing behind."""
+    for thing, good, day in NO_BAKERIES:
+        with test.subTest(thing=thing):
+            check_refused(test, good, day, ask, thing, *others)
+
+
+def is_lists_own(told, others):
+    """Whether no list within what is told is one of the others, or there twice."""
+    seen = {id(other) for other in others}
+    for part in lists_within(told):
+        if id(part) in seen:
+            return False
+        seen.add(id(part))
+    return True
+
+
+def lists_within(thing):
+    """All lists within nested lists and tuples, the outer one too."""
+    if not isinstance(thing, (list, tuple)):
+        return []
+    inner = [found for part in thing for found in lists_within(part)]
+    return [thing] + inner if isinstance(thing, list) else inner
+
+
+def asked(test, ask, *handed):
+    """The answer, told alike when asked again, its lists the asker's own, what is handed in left as it was."""
+    before = repr(handed)
+    told = ask(*handed)
+    first = repr(told)
+    test.assertTrue(is_lists_own(told, lists_within(handed)))
+    for part in lists_within(told):
+        part.append("spoilt")
+    again = ask(*handed)
+    test.assertEqual(repr(again), first)
+    test.assertEqual(repr(handed), before)
+    return again
