@@ -1,6 +1,6 @@
 """What a bakery is, and the refusal of what is none."""
 
-from bakeahead.errors import NoBakery
+from bakeahead.errors import NoBakery, NoDay, NoGood, NotPlain
 from bakeahead.numbers import is_number, is_whole
 
 MOST_DAYS = 40
@@ -81,3 +81,28 @@ def is_plain(bakery):
     look_at_bakery(bakery)
     lights, bound, goods = bakery
     return bound is None and len(goods) == 1
+
+
+def look_at_plain(bakery):
+    """Refuse what is no bakery, then what is no plain one."""
+    if not is_plain(bakery):
+        raise NotPlain("the bakery has two goods, or a bound")
+
+
+def is_place(thing, many):
+    """Whether it is the number of one of so many things that are numbered from 0."""
+    return is_whole(thing) and 0 <= thing < many
+
+
+def look_at_good_number(bakery, thing):
+    """Refuse what is not the number of a good of the bakery."""
+    lights, bound, goods = bakery
+    if not is_place(thing, len(goods)):
+        raise NoGood("the bakery has no such good")
+
+
+def look_at_day_number(bakery, thing):
+    """Refuse what is not the number of a day of the bakery."""
+    lights, bound, goods = bakery
+    if not is_place(thing, len(lights)):
+        raise NoDay("the bakery has no such day")

@@ -9,7 +9,7 @@ class NoBakery(BakeError):
     """What was handed in is no bakery; good and day tell where, as far as that can be told."""
 
     def __init__(self, good, day):
-        ValueError.__init__(self, f"no bakery (good {good}, day {day})")
+        super().__init__(f"no bakery (good {good}, day {day})")
         self.good = good
         self.day = day
 
@@ -18,7 +18,7 @@ class NoDoughs(BakeError):
     """What was handed in are no doughs; day tells the first wrong one, as far as that can be told."""
 
     def __init__(self, day):
-        ValueError.__init__(self, f"no doughs (day {day})")
+        super().__init__(f"no doughs (day {day})")
         self.day = day
 
 
@@ -26,7 +26,7 @@ class TooMuch(BakeError):
     """No plan fits; the stretch from first to last wants too much."""
 
     def __init__(self, first, last):
-        ValueError.__init__(self, f"days {first} to {last} want too much")
+        super().__init__(f"days {first} to {last} want too much")
         self.first = first
         self.last = last
 
@@ -35,7 +35,7 @@ class NoText(BakeError):
     """A text can't be read; row tells the first wrong row."""
 
     def __init__(self, row):
-        ValueError.__init__(self, f"row {row} can't be read")
+        super().__init__(f"row {row} can't be read")
         self.row = row
 
 

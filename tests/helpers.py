@@ -129,3 +129,51 @@ def asked(test, ask, *handed):
     test.assertEqual(repr(again), first)
     test.assertEqual(repr(handed), before)
     return again
+
+
+def walked_price(bakery, good, baked, given):
+    """The price of a loaf by walking from night to night, None where it has none."""
+    days, life = bakery[2][good]
+    cost = days[baked][1]
+    nights = 0
+    for night in range(len(days)):
+        if baked <= night < given:
+            cost += days[night][2]
+            nights += 1
+        if given <= night < baked:
+            if days[night][3] is None:
+                return None
+            cost += days[night][3]
+    return None if life is not None and nights > life else cost
+
+
+def random_day(chance, top, fines=True):
+    fine = chance.choice([None, 0, chance.randint(0, top)]) if fines else None
+    return (chance.choice([0, 1, chance.randint(0, 5)]), chance.randint(0, top), chance.randint(0, top), fine)
+
+
+def random_bakery(chance, many, goods=1, bound=None, fines=True):
+    """A bakery of small numbers; chance is a random.Random, made of a number, so that all runs are alike."""
+    top = chance.choice([2, 5, 12])
+    lights = [chance.randint(0, 3 * top) for _ in range(many)]
+    lives = [chance.choice([None, None, 0, 1, 2, 40]) for _ in range(goods)]
+    return (lights, bound, [([random_day(chance, top, fines) for _ in range(many)], life) for life in lives])
+
+
+def random_plan(chance, bakery):
+    """A plan that fits a bakery without a bound: each wanted loaf is baked on some day that it has a price on."""
+    many = {}
+    for good, (days, life) in enumerate(bakery[2]):
+        for given, day in enumerate(days):
+            ovens = [baked for baked in range(len(days)) if walked_price(bakery, good, baked, given) is not None]
+            for loaf in range(day[0]):
+                head = (chance.choice(ovens), good, given)
+                many[head] = many.get(head, 0) + 1
+    return sorted(head + (many[head],) for head in many)
+
+
+def two_goods_plan():
+    """A plan that fits two_goods: loaves of the same day, kept ones, late ones."""
+    return [
+        (0, 0, 0, 2), (0, 0, 1, 3), (0, 1, 0, 1), (0, 1, 2, 2), (1, 0, 3, 3), (2, 0, 1, 1), (2, 1, 3, 2), (3, 1, 2, 3),
+    ]
