@@ -37,6 +37,12 @@ def wanted_price(good, baked, given):
     return None if each is None else want * each
 
 
+def wanted_table(good):
+    """For each day of baking a list with, for each day, the price of all loaves wanted on it."""
+    days, life = good
+    return [[wanted_price(good, baked, given) for given in range(len(days))] for baked in range(len(days))]
+
+
 def price(bakery, good, baked, given):
     """The price of a loaf of a good, by its number, or None where it has none."""
     look_at_bakery(bakery)

@@ -1,7 +1,7 @@
 """The row of least costs of a plain bakery, as days are added."""
 
 from bakeahead.bakeries import look_at_plain
-from bakeahead.loaves import wanted_price
+from bakeahead.loaves import wanted_table
 
 
 def least_baked_on(row, light, prices, many):
@@ -21,9 +21,9 @@ def least_baked_on(row, light, prices, many):
     return least
 
 
-def least_of(row, lights, table, many):
-    """The least cost of so many first days, baked on these alone."""
-    costs = [least_baked_on(row, lights[baked], table[baked], many) for baked in range(many)]
+def least_of(row, lights, table, many, ovens):
+    """The least cost of so many first days, their last stretch baked on one of the days that ovens tells."""
+    costs = [least_baked_on(row, lights[baked], table[baked], many) for baked in ovens]
     return min([cost for cost in costs if cost is not None])
 
 
@@ -44,10 +44,10 @@ def least_row(bakery):
     look_at_plain(bakery)
     lights, bound, goods = bakery
     good = goods[0]
-    table = [[wanted_price(good, baked, given) for given in range(len(lights))] for baked in range(len(lights))]
+    table = wanted_table(good)
     row = [0]
     for many in range(1, len(lights) + 1):
-        least = least_of(row, lights, table, many)
+        least = least_of(row, lights, table, many, list(range(many)))
         if is_unwanted(good, many - 1):
             least = min(least, row[many - 1])
         row.append(least)

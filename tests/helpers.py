@@ -2,7 +2,7 @@
 
 import copy
 
-from bakeahead.errors import NoBakery
+from bakeahead.errors import NoBakery, NotPlain, NotSteady
 
 TOP = 10 ** 9
 SIXTY_FIGURES = 10 ** 60 - 1
@@ -99,6 +99,26 @@ def check_refuses_no_bakeries(test, ask, *others):
             check_refused(test, good, day, ask, thing, *others)
 
 
+def check_refuses_not_plain(test, ask, *others):
+    """What is a bakery, but no plain one, is refused with NotPlain."""
+    for bound, goods in [(1, 1), (TOP, 1), (None, 2), (5, 2)]:
+        for fine in (None, 4):
+            with test.assertRaises(NotPlain):
+                ask(even_bakery(3, (1, 2, 3, fine), bound=bound, goods=goods), *others)
+    with test.assertRaises(NotPlain):
+        ask(two_goods(), *others)
+
+
+def check_refuses_not_steady(test, ask):
+    """What is a plain bakery, but no steady one, is refused with NotSteady."""
+    fined = [replaced(even_bakery(3, (1, 2, 3, None)), [2, 0, 0, at, 3], fine) for at in range(3) for fine in (0, 5)]
+    dear = [replaced(even_bakery(3, (1, 2, 3, None)), [2, 0, 0, at, 1], 6) for at in (1, 2)]
+    for bakery in fined + dear + [three_days()]:
+        with test.subTest(bakery=bakery):
+            with test.assertRaises(NotSteady):
+                ask(bakery)
+
+
 def is_lists_own(told, others):
     """Whether no list within what is told is one of the others, or there twice."""
     seen = {id(other) for other in others}
@@ -158,6 +178,61 @@ def random_bakery(chance, many, goods=1, bound=None, fines=True):
     lights = [chance.randint(0, 3 * top) for _ in range(many)]
     lives = [chance.choice([None, None, 0, 1, 2, 40]) for _ in range(goods)]
     return (lights, bound, [([random_day(chance, top, fines) for _ in range(many)], life) for life in lives])
+
+
+def great_bakery(chance, many, fines=True):
+    """A bakery with numbers up to the greatest, lights that are worth something beside them, and days without a want."""
+    lights = [chance.choice([0, 1, TOP, chance.randint(0, TOP)]) for _ in range(many)]
+    days = []
+    for _ in range(many):
+        want = chance.choice([0, 1, TOP, chance.randint(0, TOP), chance.randint(0, 9)])
+        fine = chance.choice([None, 0, 1, TOP, chance.randint(0, TOP)]) if fines else None
+        days.append((want, chance.choice([0, TOP, chance.randint(0, TOP)]), chance.choice([0, 1, TOP]), fine))
+    return one_good(lights, days, life=chance.choice([None, 0, 1, 3, 40]))
+
+
+def made_steady(bakery):
+    """The plain bakery without fines, and with loaf prices that are no greater than they may be."""
+    lights, bound, goods = bakery
+    days = []
+    for want, loaf, keep, fine in goods[0][0]:
+        if days:
+            loaf = min(loaf, days[-1][1] + days[-1][2])
+        days.append((want, loaf, keep, None))
+    return one_good(list(lights), days, life=goods[0][1])
+
+
+def random_steady(chance, many):
+    return made_steady(random_bakery(chance, many, fines=False))
+
+
+def first_days(bakery, many):
+    """The bakery of just so many first days."""
+    lights, bound, goods = bakery
+    return (lights[:many], bound, [(days[:many], life) for days, life in goods])
+
+
+def sets_of_days(many):
+    """All sets of so many days, as rising lists; for few days alone."""
+    return [[day for day in range(many) if number >> day & 1] for number in range(2 ** many)]
+
+
+def cost_with_lit(bakery, lit):
+    """The least cost of all wants, baked on just these days, None where one can't be."""
+    cost = sum(bakery[0][day] for day in lit)
+    for given, day in enumerate(bakery[2][0][0]):
+        prices = [walked_price(bakery, 0, baked, given) for baked in lit]
+        prices = [each for each in prices if each is not None]
+        if day[0] > 0 and not prices:
+            return None
+        cost += day[0] * min(prices, default=0)
+    return cost
+
+
+def least_by_all_sets(bakery):
+    """The least cost, of a bakery of few days, by going through all sets of lit days."""
+    costs = [cost_with_lit(bakery, lit) for lit in sets_of_days(len(bakery[0]))]
+    return min(cost for cost in costs if cost is not None)
 
 
 def random_plan(chance, bakery):

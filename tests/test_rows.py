@@ -6,35 +6,9 @@ from bakeahead.errors import NotPlain
 from bakeahead.plans import cost_of
 from bakeahead.rows import least_row
 from helpers import (
-    TOP, asked, check_refuses_no_bakeries, even_bakery, one_good, random_bakery, random_plan, replaced, three_days,
-    two_goods, walked_price,
+    TOP, asked, check_refuses_no_bakeries, check_refuses_not_plain, even_bakery, first_days, least_by_all_sets,
+    one_good, random_bakery, random_plan, replaced, three_days,
 )
-
-
-def first_days(bakery, many):
-    """The bakery of just so many first days."""
-    lights, bound, goods = bakery
-    return (lights[:many], bound, [(days[:many], life) for days, life in goods])
-
-
-def cost_with_lit(bakery, lit):
-    """The least cost of all wants, baked on just these days, None where one can't be."""
-    cost = sum(bakery[0][day] for day in lit)
-    for given, day in enumerate(bakery[2][0][0]):
-        prices = [walked_price(bakery, 0, baked, given) for baked in lit]
-        prices = [each for each in prices if each is not None]
-        if day[0] > 0 and not prices:
-            return None
-        cost += day[0] * min(prices, default=0)
-    return cost
-
-
-def least_by_all_sets(bakery):
-    """The least cost, of a bakery of few days, by going through all sets of lit days."""
-    days = range(len(bakery[0]))
-    sets = [[day for day in days if number >> day & 1] for number in range(2 ** len(days))]
-    costs = [cost_with_lit(bakery, lit) for lit in sets]
-    return min(cost for cost in costs if cost is not None)
 
 
 def row_by_all_sets(bakery):
@@ -159,11 +133,7 @@ class Refusals(unittest.TestCase):
         check_refuses_no_bakeries(self, least_row)
 
     def test_not_plain(self):
-        for bound, goods in [(1, 1), (TOP, 1), (None, 2), (5, 2)]:
-            with self.assertRaises(NotPlain):
-                least_row(even_bakery(3, (1, 2, 3, 4), bound=bound, goods=goods))
-        with self.assertRaises(NotPlain):
-            least_row(two_goods())
+        check_refuses_not_plain(self, least_row)
 
     def test_a_refusal_leaves_nothing_behind(self):
         bakery = three_days()
