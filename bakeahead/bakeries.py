@@ -1,6 +1,6 @@
 """What a bakery is, and the refusal of what is none."""
 
-from bakeahead.errors import NoBakery, NoDay, NoGood, NotPlain
+from bakeahead.errors import NoBakery, NoDay, NoDays, NoGood, NotPlain
 from bakeahead.numbers import is_number, is_whole
 
 MOST_DAYS = 40
@@ -106,3 +106,12 @@ def look_at_day_number(bakery, thing):
     lights, bound, goods = bakery
     if not is_place(thing, len(lights)):
         raise NoDay("the bakery has no such day")
+
+
+def look_at_days(bakery, thing):
+    """Refuse what is no rising list of days of the bakery."""
+    lights, bound, goods = bakery
+    if not isinstance(thing, list) or not all([is_place(day, len(lights)) for day in thing]):
+        raise NoDays("there are no such days")
+    if not all([day < following for day, following in zip(thing, thing[1:])]):
+        raise NoDays("the days are not rising")

@@ -27,6 +27,16 @@ def loaf_price(good, baked, given):
     return loaf + keeps_of(days, baked, given)
 
 
+def good_reach(good, given):
+    """The first and the last day on which loaves for a day can be baked, of a good that is known to be one."""
+    days, life = good
+    first = 0 if life is None else max(0, given - life)
+    last = given
+    while last + 1 < len(days) and days[last][3] is not None:
+        last += 1
+    return (first, last)
+
+
 def wanted_price(good, baked, given):
     """The price of all loaves that are wanted on a day: 0 where none are, None where such a loaf has none."""
     days, life = good
@@ -59,12 +69,7 @@ def reach(bakery, good, given):
     look_at_good_number(bakery, good)
     look_at_day_number(bakery, given)
     lights, bound, goods = bakery
-    days, life = goods[good]
-    first = 0 if life is None else max(0, given - life)
-    last = given
-    while last + 1 < len(days) and days[last][3] is not None:
-        last += 1
-    return (first, last)
+    return good_reach(goods[good], given)
 
 
 def stretch_price(bakery, good, baked, first, last):

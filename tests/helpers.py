@@ -1,6 +1,7 @@
 """What several tests use: bakeries, odd things, and questions that are asked with a close look."""
 
 import copy
+import itertools
 
 from bakeahead.errors import NoBakery, NotPlain, NotSteady
 
@@ -181,7 +182,7 @@ def random_bakery(chance, many, goods=1, bound=None, fines=True):
 
 
 def great_bakery(chance, many, fines=True):
-    """A bakery with numbers up to the greatest, lights that are worth something beside them, and days without a want."""
+    """A plain bakery with numbers up to the greatest, and days without a want."""
     lights = [chance.choice([0, 1, TOP, chance.randint(0, TOP)]) for _ in range(many)]
     days = []
     for _ in range(many):
@@ -245,6 +246,43 @@ def random_plan(chance, bakery):
                 head = (chance.choice(ovens), good, given)
                 many[head] = many.get(head, 0) + 1
     return sorted(head + (many[head],) for head in many)
+
+
+def shares(many, places):
+    """All ways to share so many loaves among so many places, as tuples."""
+    if places == 0:
+        return [()] if many == 0 else []
+    return [(first,) + rest for first in range(many + 1) for rest in shares(many - first, places - 1)]
+
+
+def all_plans(bakery):
+    """All plans that fit a bakery of few days and loaves."""
+    lights, bound, goods = bakery
+    choices = []
+    for good, (days, life) in enumerate(goods):
+        for given, day in enumerate(days):
+            ovens = [baked for baked in range(len(days)) if walked_price(bakery, good, baked, given) is not None]
+            ways = shares(day[0], len(ovens))
+            choices.append([[(oven, good, given, many) for oven, many in zip(ovens, way) if many] for way in ways])
+    plans = [sorted(row for rows in picked for row in rows) for picked in itertools.product(*choices)]
+    return [plan for plan in plans if bound is None or most_on_a_day(plan) <= bound]
+
+
+def most_on_a_day(plan):
+    return max([sum(row[3] for row in plan if row[0] == day) for day in range(40)])
+
+
+def tiny_bakery(chance, loaves=4):
+    """A bakery of so few days and wanted loaves that all of its plans can be gone through; perhaps none fits."""
+    many, goods = chance.randint(1, 3), chance.randint(1, 2)
+    wants = [[0] * many for _ in range(goods)]
+    for _ in range(chance.randint(0, loaves)):
+        wants[chance.randrange(goods)][chance.randrange(many)] += 1
+    made = []
+    for row in wants:
+        days = [(want, chance.randint(0, 3), chance.randint(0, 3), chance.choice([None, None, 1])) for want in row]
+        made.append((days, chance.choice([None, 0, 1])))
+    return ([chance.randint(0, 3) for _ in range(many)], chance.choice([None, 1, 2, 3]), made)
 
 
 def two_goods_plan():

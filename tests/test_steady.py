@@ -27,7 +27,8 @@ def last_lit_by_all_sets(bakery):
     costs = [(cost_with_lit(bakery, lit), lit) for lit in sets_of_days(len(bakery[0]))]
     costs = [(cost, lit) for cost, lit in costs if cost is not None]
     least = min(cost for cost, lit in costs)
-    return max([lit[-1] for cost, lit in costs if cost == least and lit and can_bake_on_last(bakery, lit)], default=None)
+    cheap = [lit for cost, lit in costs if cost == least and lit]
+    return max([lit[-1] for lit in cheap if can_bake_on_last(bakery, lit)], default=None)
 
 
 def last_lits_by_all_sets(bakery):
