@@ -4,6 +4,7 @@ import copy
 import itertools
 
 from bakeahead.errors import NoBakery, NotPlain, NotSteady
+from bakeahead.toomuch import too_much
 
 TOP = 10 ** 9
 SIXTY_FIGURES = 10 ** 60 - 1
@@ -22,6 +23,15 @@ NO_WHOLE = [
     object(), Thing(), Thing, int, len, some_function, lambda: 1, ValueError("1"), range(1), NotImplemented, ...,
 ]
 NO_NUMBER = NO_WHOLE + [-1, -2, -TOP, TOP + 1, TOP + 2, 10 ** 18, SIXTY_FIGURES, -SIXTY_FIGURES]
+
+
+# What are no lit and no dark days of a bakery of three days.
+NO_DAYS = [
+    None, 0, 1, "", "012", b"", (), (0,), (0, 1), {}, {0: 1}, set(), {0}, range(2), Thing(), object(), True, False,
+    [1, 0], [0, 0], [0, 1, 1], [2, 1, 0], [0, 2, 1], [3], [0, 3], [-1], [-1, 0], [0, 1, 2, 3], [SIXTY_FIGURES],
+    [-SIXTY_FIGURES], [True], [False], [0, True], [False, 1], [0, True, 2], [None], [0, None], ["0"], ["0", "1"], [[]],
+    [[0]], [0, [1]], [(0,)], [(0, 1)], [b"0"], [object()], [0, Thing()], [{}], [0, 1, "2"], list(range(1000)),
+]
 
 
 def replaced(thing, path, new):
@@ -152,6 +162,35 @@ def asked(test, ask, *handed):
     return again
 
 
+def all_prices(bakery, good, given):
+    """The prices of loaves for a want, by the days of baking, of those days on which there is one."""
+    prices = {baked: walked_price(bakery, good, baked, given) for baked in range(len(bakery[0]))}
+    return {baked: each for baked, each in prices.items() if each is not None}
+
+
+def all_wants(bakery):
+    """Tuples (good, given, want) of all days of all goods."""
+    return [(good, given, day[0]) for good, (days, life) in enumerate(bakery[2]) for given, day in enumerate(days)]
+
+
+def walked_gain(bakery, prices, day):
+    """The gain of a day: the least, over all fees for a loaf, of the fees of all room and the gains above the fee."""
+    more = []
+    for good, given, want in all_wants(bakery):
+        cost = walked_price(bakery, good, day, given)
+        if cost is not None and prices[good][given] > cost:
+            more.append((prices[good][given] - cost, want))
+    if bakery[1] is None:
+        return sum(each * want for each, want in more)
+    fees = [0] + [each for each, want in more]
+    return min(bakery[1] * fee + sum(want * max(0, each - fee) for each, want in more) for fee in fees)
+
+
+def other_days(bakery, days):
+    """All days of the bakery but these."""
+    return [day for day in range(len(bakery[0])) if day not in days]
+
+
 def walked_price(bakery, good, baked, given):
     """The price of a loaf by walking from night to night, None where it has none."""
     days, life = bakery[2][good]
@@ -181,6 +220,16 @@ def random_bakery(chance, many, goods=1, bound=None, fines=True):
     return (lights, bound, [([random_day(chance, top, fines) for _ in range(many)], life) for life in lives])
 
 
+def some_bakery(chance, many):
+    """A bakery of chance, with a bound that is tight, or none."""
+    bound = chance.choice([None, chance.randint(1, 8)])
+    return random_bakery(chance, many, goods=chance.choice([1, 2]), bound=bound, fines=chance.random() < 0.6)
+
+
+def some_days(chance, many):
+    return [day for day in range(many) if chance.random() < chance.choice([0.1, 0.5])]
+
+
 def great_bakery(chance, many, fines=True):
     """A plain bakery with numbers up to the greatest, and days without a want."""
     lights = [chance.choice([0, 1, TOP, chance.randint(0, TOP)]) for _ in range(many)]
@@ -190,6 +239,33 @@ def great_bakery(chance, many, fines=True):
         fine = chance.choice([None, 0, 1, TOP, chance.randint(0, TOP)]) if fines else None
         days.append((want, chance.choice([0, TOP, chance.randint(0, TOP)]), chance.choice([0, 1, TOP]), fine))
     return one_good(lights, days, life=chance.choice([None, 0, 1, 3, 40]))
+
+
+def great_goods(chance, many, goods=2):
+    """A bakery with numbers up to the greatest, and a bound of which a plan fits, though perhaps with none less."""
+    top = chance.choice([4, TOP])
+    made = []
+    for _ in range(goods):
+        life = chance.choice([None, 0, 2, 9, 40])
+        fines = chance.choice([[None], [None, 0, top // 2], [0, 1, top]])
+        wants = [chance.choice([0, 1, TOP // goods, chance.randint(0, TOP // goods)]) for _ in range(many)]
+        days = [(want, chance.randint(0, top), chance.randint(0, top), chance.choice(fines)) for want in wants]
+        made.append((days, life))
+    lights = [chance.choice([0, top, chance.randint(0, TOP)]) for _ in range(many)]
+    least = least_bound((lights, 1, made))
+    return (lights, min(TOP, least + chance.choice([0, 0, 1, least // 3])), made)
+
+
+def least_bound(bakery):
+    """The least bound with which a plan fits, of a bakery of which one does with the greatest."""
+    low, high = 1, TOP
+    while low < high:
+        middle = (low + high) // 2
+        if too_much((bakery[0], middle, bakery[2]), []) is None:
+            high = middle
+        else:
+            low = middle + 1
+    return low
 
 
 def made_steady(bakery):
@@ -272,9 +348,9 @@ def most_on_a_day(plan):
     return max([sum(row[3] for row in plan if row[0] == day) for day in range(40)])
 
 
-def tiny_bakery(chance, loaves=4):
+def tiny_bakery(chance, loaves=4, most=3):
     """A bakery of so few days and wanted loaves that all of its plans can be gone through; perhaps none fits."""
-    many, goods = chance.randint(1, 3), chance.randint(1, 2)
+    many, goods = chance.randint(1, most), chance.randint(1, 2)
     wants = [[0] * many for _ in range(goods)]
     for _ in range(chance.randint(0, loaves)):
         wants[chance.randrange(goods)][chance.randrange(many)] += 1

@@ -6,8 +6,8 @@ from bakeahead.errors import NoBakery, NoDays
 from bakeahead.loaves import reach
 from bakeahead.toomuch import too_much, wants_too_much
 from helpers import (
-    NO_WHOLE, SIXTY_FIGURES, TOP, Thing, all_plans, asked, check_refuses_no_bakeries, even_bakery, great_bakery,
-    one_good, random_bakery, replaced, sets_of_days, three_days, tiny_bakery, two_goods,
+    NO_DAYS, NO_WHOLE, SIXTY_FIGURES, TOP, Thing, all_plans, asked, check_refuses_no_bakeries, even_bakery,
+    great_bakery, one_good, replaced, sets_of_days, some_bakery, some_days, three_days, tiny_bakery, two_goods,
 )
 
 
@@ -38,16 +38,6 @@ def first_too_much(bakery, dark):
     reaches = all_reaches(bakery)
     found = [stretch for stretch in all_stretches(bakery) if is_too_much(bakery, reaches, dark, *stretch)]
     return min(found, default=None)
-
-
-def some_bakery(chance, many):
-    """A bakery of chance, with a bound that is tight, or none."""
-    bound = chance.choice([None, chance.randint(1, 8)])
-    return random_bakery(chance, many, goods=chance.choice([1, 2]), bound=bound, fines=chance.random() < 0.6)
-
-
-def some_days(chance, many):
-    return [day for day in range(many) if chance.random() < chance.choice([0.1, 0.5])]
 
 
 class Stretches(unittest.TestCase):
@@ -213,15 +203,6 @@ class NoStretches(Stretches):
         self.fine(three_days(), [0, 1, 2], (1, 0))
         self.fine(three_days(), [0, 1, 2], (2, 0))
         self.fine(even_bakery(3, (9, 1, 1, None), bound=1, life=0), [], (2, 1))
-
-
-# What are no dark days of a bakery of three days.
-NO_DAYS = [
-    None, 0, 1, "", "012", b"", (), (0,), (0, 1), {}, {0: 1}, set(), {0}, range(2), Thing(), object(), True, False,
-    [1, 0], [0, 0], [0, 1, 1], [2, 1, 0], [0, 2, 1], [3], [0, 3], [-1], [-1, 0], [0, 1, 2, 3], [SIXTY_FIGURES],
-    [-SIXTY_FIGURES], [True], [False], [0, True], [False, 1], [0, True, 2], [None], [0, None], ["0"], ["0", "1"], [[]],
-    [[0]], [0, [1]], [(0,)], [(0, 1)], [b"0"], [object()], [0, Thing()], [{}], [0, 1, "2"], list(range(1000)),
-]
 
 
 class DarkDays(unittest.TestCase):
