@@ -22,7 +22,7 @@ class Sharing:
         self.wanted = wants + [sum(rooms) - sum(wants)]
         self.loaf_costs = [costs + [0] for costs in loaf_costs]
         self.fees = [0 for room in rooms]
-        self.worths = [min([costs[want] for costs in self.loaf_costs], default=0) for want in range(len(wants) + 1)]
+        self.worths = [0 for want in self.wanted]
         self.shared = [{} for room in rooms]
 
     def slack(self, oven, want):
