@@ -18,6 +18,11 @@ def is_list_of(thing, fewest, most):
     return isinstance(thing, list) and fewest <= len(thing) <= most
 
 
+def are_whole(thing, many):
+    """Whether it is a list of so many whole numbers."""
+    return is_list_of(thing, many, many) and all([is_whole(each) for each in thing])
+
+
 def are_lights(thing):
     """Whether it is a list of the days' prices of lighting the oven."""
     return is_list_of(thing, 1, MOST_DAYS) and all([is_number(light) for light in thing])

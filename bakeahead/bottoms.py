@@ -1,14 +1,8 @@
 """Loaf prices, and the bottom that they put under the cost of plans, whoever wrote them."""
 
-from bakeahead.bakeries import is_list_of, look_at_bakery, look_at_day_number
+from bakeahead.bakeries import are_whole, is_list_of, look_at_bakery, look_at_day_number
 from bakeahead.loaves import loaf_price
-from bakeahead.numbers import is_whole
 from bakeahead.toomuch import room_of_day
-
-
-def are_whole(thing, many):
-    """Whether it is a list of so many whole numbers."""
-    return is_list_of(thing, many, many) and all([is_whole(each) for each in thing])
 
 
 def are_loaf_prices(bakery, thing):

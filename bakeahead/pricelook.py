@@ -1,13 +1,12 @@
 """Whether prices on the days' wants are let by, whoever wrote them."""
 
-from bakeahead.bakeries import is_list_of, look_at_plain
+from bakeahead.bakeries import are_whole, look_at_plain
 from bakeahead.loaves import wanted_table
-from bakeahead.numbers import is_whole
 
 
 def are_prices(days, thing):
     """Whether it is a list with a whole number for each of these days, 0 where nothing is wanted."""
-    if not is_list_of(thing, len(days), len(days)) or not all([is_whole(each) for each in thing]):
+    if not are_whole(thing, len(days)):
         return False
     return all([each == 0 for each, (want, loaf, keep, fine) in zip(thing, days) if want == 0])
 

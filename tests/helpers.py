@@ -3,7 +3,7 @@
 import copy
 import itertools
 
-from bakeahead.errors import NoBakery, NotPlain, NotSteady
+from bakeahead.errors import NoBakery, NoDoughs, NotPlain, NotSteady
 from bakeahead.toomuch import too_much
 
 TOP = 10 ** 9
@@ -118,6 +118,70 @@ def check_refuses_not_plain(test, ask, *others):
                 ask(even_bakery(3, (1, 2, 3, fine), bound=bound, goods=goods), *others)
     with test.assertRaises(NotPlain):
         ask(two_goods(), *others)
+
+
+# No doughs of a bakery of three days, and the day by which each is refused.
+NO_DOUGHS = [
+    (None, None), (7, None), ("doughs", None), ((), None), ({}, None), (object(), None), (Thing(), None), (True, None),
+    ([], None), ([(1, 2, 3)], None), ([(1, 2, 3)] * 2, None), ([(1, 2, 3)] * 4, None), ([None] * 4, None),
+    (((1, 2, 3),) * 3, None), ({0: (1, 2, 3), 1: (1, 2, 3), 2: (1, 2, 3)}, None), ([(1, 2, 3)] * 1000, None),
+    ([None, (1, 2, 3), (1, 2, 3)], 0), ([(1, 2, 3), (1, 2), (1, 2, 3)], 1), ([(1, 2, 3), (1, 2, 3), (1, 2, 3, 4)], 2),
+    ([[1, 2, 3], (1, 2, 3), (1, 2, 3)], 0), ([(1, 2, 3), (1, 2, 3), [1, 2, 3]], 2), ([(1, 2, 3), "123", None], 1),
+    ([(1, 2, 3), (1, True, 3), (1, 2, 3)], 1), ([(1, 2, 3), (1, 2, 3), (False, 2, 3)], 2),
+    ([(1, 2, -1), (1, 2, 3), (1, 2, 3)], 0), ([(1, 2, 3), (TOP + 1, 2, 3), (-1, 2, 3)], 1),
+    ([(1, 2, 3), (1, 2, 3), (1, None, 3)], 2), ([(1, "2", 3), (1, 2, 3), (1, 2, 3)], 0), ([(), (), ()], 0),
+]
+
+
+def check_refused_doughs(test, day, ask, *handed):
+    """The asking is refused with NoDoughs, of just this day, and what is handed in stays as it was."""
+    before = repr(handed)
+    with test.assertRaises(NoDoughs) as caught:
+        ask(*handed)
+    test.assertEqual(repr(caught.exception.day), repr(day))
+    test.assertEqual(repr(handed), before)
+
+
+def check_refuses_no_doughs(test, ask, *others):
+    """NoBakery, then NotPlain, then NoDoughs, ahead of all else."""
+    for doughs in ([(1, 2, 3)] * 3, None, [(1, 2, True)] * 3):
+        check_refuses_no_bakeries(test, ask, doughs, *others)
+        check_refuses_not_plain(test, ask, doughs, *others)
+    for thing, day in NO_DOUGHS:
+        with test.subTest(thing=thing):
+            check_refused_doughs(test, day, ask, three_days(), thing, *others)
+
+
+def random_doughs(chance, many, top=None):
+    """Doughs of so many days."""
+    top = chance.choice([0, 2, 5, 12]) if top is None else top
+    mixes = [chance.choice([0, chance.randint(0, 3 * top)]) if top < TOP else chance.randint(0, TOP) for _ in range(many)]
+    return [(mix, chance.randint(0, top), chance.choice([0, chance.randint(0, top)])) for mix in mixes]
+
+
+def walked_dough(doughs, mixed, baked):
+    """The price of the dough for a loaf, night by night."""
+    return doughs[mixed][1] + sum(hold for day, (mix, dough, hold) in enumerate(doughs) if mixed <= day < baked)
+
+
+def cost_with_mixed(bakery, doughs, mixing, lit):
+    """The least cost of all wants, mixed and baked on just these days, None where one can't be."""
+    cost = sum(doughs[day][0] for day in mixing) + sum(bakery[0][day] for day in lit)
+    for given, day in enumerate(bakery[2][0][0]):
+        prices = all_prices(bakery, 0, given)
+        ways = [prices[baked] + walked_dough(doughs, mixed, baked)
+                for baked in lit if baked in prices for mixed in mixing if mixed <= baked]
+        if day[0] > 0 and not ways:
+            return None
+        cost += day[0] * min(ways, default=0)
+    return cost
+
+
+def least_by_all_mixings(bakery, doughs):
+    """The least cost, of a bakery of few days, by going through all sets of days of mixing and of baking."""
+    sets = sets_of_days(len(bakery[0]))
+    costs = [cost_with_mixed(bakery, doughs, mixing, lit) for mixing in sets for lit in sets]
+    return min(cost for cost in costs if cost is not None)
 
 
 def check_refuses_not_steady(test, ask):
