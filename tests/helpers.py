@@ -155,7 +155,7 @@ def check_refuses_no_doughs(test, ask, *others):
 def random_doughs(chance, many, top=None):
     """Doughs of so many days."""
     top = chance.choice([0, 2, 5, 12]) if top is None else top
-    mixes = [chance.choice([0, chance.randint(0, 3 * top)]) if top < TOP else chance.randint(0, TOP) for _ in range(many)]
+    mixes = [chance.choice([0, chance.randint(0, min(TOP, 3 * top))]) for _ in range(many)]
     return [(mix, chance.randint(0, top), chance.choice([0, chance.randint(0, top)])) for mix in mixes]
 
 

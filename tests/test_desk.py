@@ -317,18 +317,21 @@ NO_ROWS = [
     "change", "change a", "change a 0", "change a 0 want", "change a 0 want 1 1", "change a want 0 1",
     "change a 0 want 1 ", "change a 0  want 1", "change a 0 1 want", "change 0 a want 1", "change a 0 want want",
     "back", "back ", "back  ", "back a ", " back a", "back  a", "back a a", "back a\n", "back\ta", "back -", "back 0",
-    "least", "least a a", "least a ", "row", "row a a", "row  a", "row a\t", "day", "day a", "day a ", "day a  0", "day 0 a",
+    "least", "least a a", "least a ", "row", "row a a", "row  a", "row a\t", "day", "day a", "day a ", "day a  0",
+    "day 0 a",
     "day a 0 0", "day a 0 ", "day a\n0", "days", "days a 0", "days a ", "settled", "settled a a", "settled ", "last",
     "last a a", "last a ", "twin", "twin a", "twin a ", "twin a b c", "twin a  b", "twin a b ", "twin a B", "twin A b",
     "twin a -", "twin - a", "twin a 0", "drop", "drop a a", "drop a ", "drop A", "names\nnames", "row a\nrow a",
     "make a - 9 3 4 2 - names", "a row", "row,a", "row a;", "row 'a'", "row(a)", "row.a",
 ]
 NO_NAMES = [
-    "A", "Ab", "aB", "abcdefghi", "abcdefghijklmnop", "a1", "1", "1a", "a-", "-", "_", "a_", "a.", "", "a\t", "\ta", "a\n",
+    "A", "Ab", "aB", "abcdefghi", "abcdefghijklmnop", "a1", "1", "1a", "a-", "-", "_", "a_", "a.", "", "a\t", "\ta",
+    "a\n",
     "~", "{", "`", "@", "[", "a,b", "ab'", "*",
 ]
 NO_FIGURES = [
-    "00", "01", "007", "0000000001", "+1", "-1", "-0", "+0", "1.", "1.0", ".5", "1e3", "0x1", "1_0", "1,0", "one", "--", "",
+    "00", "01", "007", "0000000001", "+1", "-1", "-0", "+0", "1.", "1.0", ".5", "1e3", "0x1", "1_0", "1,0", "one", "--",
+    "",
     "\t1", "1\t", "1\n", "None", "null", "nan", "1000000001", "1000000002", "9999999999", "10000000000", "1" * 60,
     "0" * 20, "True", "a", "#", "/", ":", "1:", "(1)", "[1]", "'1'",
 ]
@@ -350,8 +353,8 @@ class NoRows(Desks):
         desk = week_desk()
         for name in NO_NAMES:
             for row in [f"make {name} - 9 3 4 2 -", f"add {name} 9 3 4 2 -", f"change {name} 0 want 1", f"back {name}",
-                        f"least {name}", f"row {name}", f"day {name} 0", f"days {name}", f"settled {name}", f"last {name}",
-                        f"twin {name} b", f"twin a {name}", f"drop {name}"]:
+                        f"least {name}", f"row {name}", f"day {name} 0", f"days {name}", f"settled {name}",
+                        f"last {name}", f"twin {name} b", f"twin a {name}", f"drop {name}"]:
                 self.refuses(desk, NoRow, row)
 
     def test_numbers_that_are_none(self):
@@ -478,7 +481,7 @@ class AgainstALedger(Desks):
 
         def name():
             return chance.choice(["a", "b", "row", "abcdefgh"])
-        head = chance.choice(HEADS + ["add", "add", "add", "change", "change", "change", "back", "settled", "last", "row"])
+        head = chance.choice(HEADS + ["add", "change"] * 3 + ["back", "settled", "last", "row"])
         if head in ("make", "add"):
             loaf, keep = (2, 3) if steady else (number(), number())
             life = [chance.choice([None, 0, 1, 40])] if head == "make" else []

@@ -47,10 +47,11 @@ def random_dough_plan(chance, bakery):
 
 def worked_cost(bakery, doughs, plan):
     """What a plan costs: days, then loaves, dough by dough and night by night."""
-    days = sum(doughs[day][0] for day in {row[0] for row in plan}) + sum(bakery[0][day] for day in {row[1] for row in plan})
+    mixes = sum(doughs[day][0] for day in {row[0] for row in plan})
+    lights = sum(bakery[0][day] for day in {row[1] for row in plan})
     loaves = [many * (walked_dough(doughs, mixed, baked) + walked_price(bakery, 0, baked, given))
               for mixed, baked, given, many in plan]
-    return days + sum(loaves)
+    return mixes + lights + sum(loaves)
 
 
 class Looking(unittest.TestCase):
@@ -67,7 +68,8 @@ class Looking(unittest.TestCase):
         for thing in NO_NUMBER:
             for day in range(3):
                 for part in range(3):
-                    check_refused_doughs(self, day, look_at_doughs, three_days(), replaced(some_doughs(), [day, part], thing))
+                    wrong = replaced(some_doughs(), [day, part], thing)
+                    check_refused_doughs(self, day, look_at_doughs, three_days(), wrong)
 
     def test_other_things_in_a_days_place(self):
         for thing in NO_WHOLE + [0, 1, [1, 2, 3], (1, 2), (1, 2, 3, 4), ((1, 2, 3),), Thing()]:
@@ -178,7 +180,8 @@ class Fits(unittest.TestCase):
             for _ in range(chance.choice([0, 0, 1, 1, 2])):
                 if plan:
                     at, part = chance.randrange(len(plan)), chance.randrange(4)
-                    plan = replaced(plan, [at, part], chance.randrange(many) if part < 3 else plan[at][3] + chance.choice([-1, 1]))
+                    new = chance.randrange(many) if part < 3 else plan[at][3] + chance.choice([-1, 1])
+                    plan = replaced(plan, [at, part], new)
                 if chance.random() < 0.3:
                     plan = sorted(plan)
             wanted = does_fit(bakery, plan)
@@ -202,7 +205,8 @@ class Costs(unittest.TestCase):
         self.costs(three_days(), some_doughs(), [(0, 0, 0, 2), (0, 0, 1, 4)], 7 + 10 + 2 * (2 + 5) + 4 * (2 + 6))
         # Held over a night, then baked: 1 more for each; day 0 waits for 3.
         self.costs(three_days(), some_doughs(), [(0, 1, 0, 2), (0, 1, 1, 4)], 7 + 20 + 2 * (3 + 9) + 4 * (3 + 6))
-        self.costs(three_days(), some_doughs(), [(0, 0, 0, 2), (1, 1, 1, 4)], 7 + 5 + 10 + 20 + 2 * (2 + 5) + 4 * (3 + 6))
+        cost = 7 + 5 + 10 + 20 + 2 * (2 + 5) + 4 * (3 + 6)
+        self.costs(three_days(), some_doughs(), [(0, 0, 0, 2), (1, 1, 1, 4)], cost)
 
     def test_each_day_once(self):
         plan = some_plan()

@@ -301,7 +301,8 @@ class FortyDays(Flows):
 
     def test_at_once(self):
         chance = random.Random(210)
-        bakeries = [great_goods(chance, 40) for _ in range(3)] + [even_bakery(40, (TOP // 2, 0, 0, 0), bound=TOP, goods=2)]
+        bakeries = [great_goods(chance, 40) for _ in range(3)]
+        bakeries.append(even_bakery(40, (TOP // 2, 0, 0, 0), bound=TOP, goods=2))
         for bakery in bakeries:
             start = time.process_time()
             baked_on(bakery, list(range(40)))
@@ -312,7 +313,9 @@ class FortyDays(Flows):
 
 class Refusals(Flows):
     def test_no_days(self):
-        bakeries = [three_days(), even_bakery(3, (1, 1, 1, 1), bound=2, goods=2), even_bakery(3, (9, 1, 1, None), bound=1)]
+        bakeries = [three_days(), even_bakery(3, (1, 1, 1, 1), bound=2, goods=2)]
+        # Too much is wanted of the last one, but NoDays goes ahead.
+        bakeries.append(even_bakery(3, (9, 1, 1, None), bound=1))
         for lit in NO_DAYS:
             for bakery in bakeries:
                 for ask in (baked_on, loaf_prices):

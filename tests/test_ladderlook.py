@@ -104,9 +104,10 @@ class ByHand(Ladders):
     def test_mixed_is_no_more_than_free_and_the_mix(self):
         doughs = [(7, 2, 1), (4, 2, 1)]
         self.lets(two_days(), doughs, ([0, 5, 3], [[7, 12, 10], [4, 9, 7]]))
-        for path, one_more in [([1, 0, 0], 8), ([1, 0, 1], 13), ([1, 0, 2], 11), ([1, 1, 0], 5), ([1, 1, 1], 10), ([1, 1, 2], 8)]:
-            ladder = replaced(([0, 5, 3], [[7, 12, 10], [4, 9, 7]]), path, one_more)
-            self.refuses(two_days(), doughs, ladder)
+        for day, row in enumerate([[8, 13, 11], [5, 10, 8]]):
+            for at, one_more in enumerate(row):
+                ladder = replaced(([0, 5, 3], [[7, 12, 10], [4, 9, 7]]), [1, day, at], one_more)
+                self.refuses(two_days(), doughs, ladder)
 
     def test_a_day_without_a_want(self):
         doughs = [(7, 2, 1), (4, 2, 1)]
@@ -151,7 +152,8 @@ class Forms(Ladders):
         return [(7, 2, 1)] * 3
 
     def test_other_kinds(self):
-        for thing in NO_WHOLE + [0, Thing(), "ladder", noughts(3)[0], noughts(3)[1], noughts(3) + (0,), (noughts(3)[0],)]:
+        free, mixed = noughts(3)
+        for thing in NO_WHOLE + [0, Thing(), "ladder", free, mixed, (free, mixed, 0), (free,), (mixed, free)]:
             self.refuses(three_days(), self.doughs(), thing)
 
     def test_a_list_in_the_tuples_place(self):

@@ -122,7 +122,7 @@ class ToTwelveDays(Cheapest):
     def test_doughs_that_cost_nothing(self):
         chance = random.Random(287)
         for many in range(1, 13):
-            for bakery in (random_bakery(chance, many), random_bakery(chance, many, fines=False), great_bakery(chance, many)):
+            for bakery in (random_bakery(chance, many), random_steady(chance, many), great_bakery(chance, many)):
                 self.told(bakery, free_doughs(many), least_row(bakery)[-1])
 
     def test_lights_that_cost_nothing(self):
@@ -161,7 +161,8 @@ class Refusals(Cheapest):
 
     def test_no_doughs_ahead_of_too_many(self):
         for many in (13, 40):
-            for doughs, day in [([(1, 1, 1)] * (many - 1), None), (None, None), ([(1, 1, 1)] * (many - 1) + [None], many - 1)]:
+            short = [(1, 1, 1)] * (many - 1)
+            for doughs, day in [(short, None), (None, None), (short + [None], many - 1)]:
                 with self.assertRaises(NoDoughs) as caught:
                     cheapest_doughs(even_bakery(many, (1, 1, 1, 1)), doughs)
                 self.assertEqual(caught.exception.day, day)

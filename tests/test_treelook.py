@@ -174,8 +174,8 @@ class Splits(Trees):
 
     def test_too_few_and_too_many_parts(self):
         leaf = ("prices", [[0, 0]])
-        for thing in [("split",), ("split", 0), ("split", 0, leaf), ("split", 0, leaf, leaf, leaf), ("split", leaf, leaf),
-                      ("split", 0, (leaf, leaf)), ("split", 0, leaf, leaf, None)]:
+        for thing in [("split",), ("split", 0), ("split", 0, leaf), ("split", 0, leaf, leaf, leaf),
+                      ("split", leaf, leaf), ("split", 0, (leaf, leaf)), ("split", 0, leaf, leaf, None)]:
             self.refuses(tight(), -SKY, thing)
 
 
